@@ -1,0 +1,1 @@
+"""Sheetlay: many maps of one land, laid over one another exactly."""
