@@ -11,12 +11,16 @@ def spot(x, y, w=1):
     return (x // shared, y // shared, w // shared)
 
 
-def ahead(p, q):
+def is_below(p, q):
     # Multiplied by both w, which are above 0, places are compared whole.
+    return p[1] * q[2] < q[1] * p[2]
+
+
+def ahead(p, q):
     one = p[0] * q[2]
     other = q[0] * p[2]
     if one == other:
-        return p[1] * q[2] < q[1] * p[2]
+        return is_below(p, q)
     return one < other
 
 

@@ -2,6 +2,7 @@
 
 import importlib
 import inspect
+import operator
 import unittest
 
 FUNCTIONS = {
@@ -23,6 +24,31 @@ FUNCTIONS = {
         "on_side": "(p, side)",
         "common": "(one, other)",
         "along": "(side, some)",
+    },
+    "loops": {
+        "sides_of": "(loop)",
+        "area": "(loop)",
+        "is_simple": "(loop)",
+        "turned": "(loop)",
+        "where": "(loop, p)",
+        "loop_ahead": "(one, other)",
+    },
+    "webs": {
+        "round_about": "(b, some)",
+        "loops_of": "(web)",
+    },
+    "within": {
+        "spot_in": "(loop)",
+    },
+}
+
+CLASSES = {
+    "sheets": {
+        "Sheet": "(name, faces)",
+        "Sheet.border": "(self)",
+        "Sheet.land": "(self)",
+        "Sheet.told": "(self, word)",
+        "Sheet.faces_at": "(self, p)",
     },
 }
 
@@ -46,6 +72,13 @@ class Interface(unittest.TestCase):
             for function, arguments in functions.items():
                 with self.subTest(module=name, function=function):
                     told = inspect.signature(getattr(module(name), function))
+                    self.assertEqual(str(told), arguments)
+
+    def test_classes_and_their_methods(self):
+        for name, things in CLASSES.items():
+            for thing, arguments in things.items():
+                with self.subTest(module=name, thing=thing):
+                    told = inspect.signature(operator.attrgetter(thing)(module(name)))
                     self.assertEqual(str(told), arguments)
 
     def test_errors(self):

@@ -19,6 +19,8 @@ METHODS = set("""append clear copy count endswith extend find get index insert i
     bit_length""".split())
 PYTHON_METHODS = {name for kind in (str, int, list, tuple, dict, set, frozenset, bytes) for name in vars(kind)}
 TWO_UNDERSCORES = {"__init__", "__eq__", "__repr__", "__str__", "__len__"}
+NO_VALUES = set("""items keys values pop update append clear extend insert remove reverse setdefault sort args encode
+    format""".split())
 LEFT_OUT_NAMES = set("""register mro elements open input version_info with_traceback add_note format format_map
     attrgetter breakpoint builtins compile copyright credits delattr dir eval exec exit gc getattr globals hasattr
     help id importlib license locals methodcaller os quit setattr super type vars sys""".split())
@@ -144,9 +146,24 @@ def text_faults(text):
             yield (k, "L17: " + LEFT_OUT_WORDS.search(line).group())
 
 
+def taken_names(tree):
+    # Names that no parameter and no local of this file may have.
+    drawn = [alias.name for node in tree.body if isinstance(node, ast.ImportFrom) for alias in node.names]
+    return set(drawn) | {node.name for node in tree.body if isinstance(node, ast.ClassDef)}
+
+
+def local_faults(tree):
+    taken = taken_names(tree)
+    for node in ast.walk(tree):
+        for name in names_bound(node):
+            if name in taken and not isinstance(node, (ast.ClassDef, ast.Attribute)):
+                yield (getattr(node, "lineno", 0), "L15: " + name)
+
+
 def faults(text):
     found = list(text_faults(text))
     tree = ast.parse(text)
+    found += list(local_faults(tree))
     own_methods = {node.name for node in ast.walk(tree) if isinstance(node, ast.FunctionDef)}
     for node in tree.body:
         found += [(node.lineno, fault) for fault in top_faults(node)]
@@ -192,6 +209,17 @@ class Language(unittest.TestCase):
                     self.assertNotIn(node.name, seen, f"in {name} and {seen.get(node.name)}")
                     seen[node.name] = name
 
+    def test_no_name_is_a_method_here_and_a_value_there(self):
+        methods, values = set(), set()
+        for text in self.files().values():
+            for node in ast.walk(ast.parse(text)):
+                if isinstance(node, ast.ClassDef):
+                    methods |= {part.name for part in node.body if isinstance(part, ast.FunctionDef)}
+                if isinstance(node, ast.Attribute) and isinstance(node.ctx, ast.Store):
+                    values.add(node.attr)
+        self.assertEqual(methods & values, set())
+        self.assertEqual(values & NO_VALUES, set())
+
     def test_the_walk_sees_faults(self):
         for text in (
             "import math\n", "from . import spots\n", "x = f(1)\n", "def f():\n    return 1 / 2\n", "x = 1.5\n",
@@ -199,6 +227,8 @@ class Language(unittest.TestCase):
             "def f(x):\n    return map(x)\n", "def f(x):\n    x.sort()\n", "class A:\n    x = 1\n", "# a type\n",
             "def f(n):\n    return 2 ** n\n", "def f(x, y):\n    return x is y\n", "# \u00e4\n", "x = 1  " + " " * 120,
             "def f():\n" + "    pass\n" * 40, "x = 1\n" * 401, "def _f():\n    pass\n",
+            "from sheetlay.spots import turn\n\n\ndef f(turn):\n    pass\n",
+            "from sheetlay.spots import turn\n\n\ndef f():\n    for turn in ():\n        pass\n",
         ):
             with self.subTest(text[:40]):
                 self.assertNotEqual(faults(text), [])

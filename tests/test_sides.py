@@ -2,57 +2,14 @@
 
 import itertools
 import unittest
-from fractions import Fraction
 
+from by_fractions import common_by_shares, is_on
 from sheetlay.sides import along, common, on_side
 from sheetlay.spots import spot
 
 GREAT = 10 ** 30
 GRID = [spot(x, y) for x in range(3) for y in range(3)]
 ODD_SPOTS = [spot(0, 0), spot(1, 1), spot(2, 2), spot(1, 2, 3), spot(2, 1, 2), spot(-1, 3, 2), spot(5, 5, 3), spot(0, 7, 3)]
-
-
-def place(p):
-    return (Fraction(p[0], p[2]), Fraction(p[1], p[2]))
-
-
-def spot_at(x, y):
-    w = x.denominator * y.denominator
-    return spot(x.numerator * y.denominator, y.numerator * x.denominator, w)
-
-
-def share_of_side(p, side):
-    # How far along the side p lies, from 0 to 1 on it; None beside its row.
-    a, b, c = place(side[0]), place(side[1]), place(p)
-    k = 0 if a[0] != b[0] else 1
-    share = (c[k] - a[k]) / (b[k] - a[k])
-    met = tuple(a[i] + share * (b[i] - a[i]) for i in (0, 1))
-    return share if met == c else None
-
-
-def common_by_shares(one, other):
-    shares = [share_of_side(p, one) for p in other]
-    if None not in shares:
-        return stretch_by_shares(one, max(0, min(shares)), min(1, max(shares)))
-    a, b, c, d = place(one[0]), place(one[1]), place(other[0]), place(other[1])
-    u, v, w = ((q[0] - p[0], q[1] - p[1]) for p, q in ((a, b), (c, d), (a, c)))
-    area = u[0] * v[1] - u[1] * v[0]
-    if area == 0:
-        return None
-    on_one = (w[0] * v[1] - w[1] * v[0]) / area
-    on_other = (w[0] * u[1] - w[1] * u[0]) / area
-    if not (0 <= on_one <= 1 and 0 <= on_other <= 1):
-        return None
-    return ("spot", spot_at(a[0] + on_one * u[0], a[1] + on_one * u[1]))
-
-
-def stretch_by_shares(side, low, high):
-    if low > high:
-        return None
-    a, b = place(side[0]), place(side[1])
-    ends = sorted((a[0] + share * (b[0] - a[0]), a[1] + share * (b[1] - a[1])) for share in (low, high))
-    p, q = (spot_at(x, y) for x, y in ends)
-    return ("spot", p) if p == q else ("stretch", p, q)
 
 
 class Common(unittest.TestCase):
@@ -182,8 +139,7 @@ class OnSide(unittest.TestCase):
         for some in (GRID, ODD_SPOTS):
             for side in itertools.permutations(some, 2):
                 for p in some:
-                    share = share_of_side(p, side)
-                    self.assertIs(on_side(p, side), share is not None and 0 <= share <= 1)
+                    self.assertIs(on_side(p, side), is_on(p, side))
 
 
 class Along(unittest.TestCase):

@@ -2,8 +2,8 @@
 
 import math
 import unittest
-from fractions import Fraction
 
+from by_fractions import place
 from sheetlay.sides import common
 from sheetlay.spots import ahead, in_order, spot, turn
 
@@ -20,10 +20,6 @@ GREAT_SPOTS = [
     spot(1, -1, GREAT),
     spot(-1, 1, GREAT - 1),
 ]
-
-
-def place(p):
-    return (Fraction(p[0], p[2]), Fraction(p[1], p[2]))
 
 
 def turn_of_places(a, b, c):
