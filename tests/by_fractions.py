@@ -1,6 +1,7 @@
 """What the document says of places, said once more by fractions: slower
 than the program and by other ways, so that the two can be held together."""
 
+import itertools
 from fractions import Fraction
 
 from sheetlay.spots import spot
@@ -127,3 +128,31 @@ def loops_by_directions(sides):
             going = (b, min(near[b], key=lambda c: (direction(b, a) - direction(b, c)) % 4 or 4))
         loops.append(first_rotation(tuple(loop)))
     return sorted(loops, key=places)
+
+
+def corners_by_shares(sides):
+    found = {p for side in sides for p in side}
+    for one, other in itertools.combinations(set(sides), 2):
+        met = common_by_shares(one, other)
+        if met is not None and met[0] == "spot":
+            found.add(met[1])
+    return found
+
+
+def paper_by_shares(sides):
+    # From each piece, in order, to the numbers of the sides it lies on.
+    corners = corners_by_shares(sides)
+    found = {}
+    for k, side in enumerate(sides):
+        spots = sorted([p for p in corners if is_on(p, side)], key=place)
+        for piece in zip(spots, spots[1:]):
+            found.setdefault(piece, []).append(k)
+    return {piece: found[piece] for piece in sorted(found, key=places)}
+
+
+def face_around(faces, p):
+    # The one face of a sheet inside whose loop p is.
+    found = [word for word, mark, loop in faces if where_by_places(loop, p) == 1]
+    if len(found) != 1:
+        raise ValueError((faces, p, found))
+    return found[0]

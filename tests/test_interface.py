@@ -40,6 +40,20 @@ FUNCTIONS = {
     "within": {
         "spot_in": "(loop)",
     },
+    "sheettexts": {
+        "sheet_text": "(sheet)",
+        "read_sheet": "(text)",
+    },
+    "pieces": {
+        "pieces": "(sides)",
+        "piece_paper": "(sides)",
+    },
+    "sums": {
+        "marks_of": "(lay, n)",
+        "face_area": "(lay, n)",
+        "summed": "(lay, names)",
+        "sheet_summed": "(sheet)",
+    },
 }
 
 CLASSES = {
@@ -49,6 +63,11 @@ CLASSES = {
         "Sheet.land": "(self)",
         "Sheet.told": "(self, word)",
         "Sheet.faces_at": "(self, p)",
+    },
+    "lays": {
+        "Lay": "(sheets)",
+        "Lay.paper": "(self)",
+        "Lay.face_at": "(self, p)",
     },
 }
 

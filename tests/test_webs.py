@@ -37,7 +37,9 @@ class RoundAbout(unittest.TestCase):
         self.assert_round(spot(0, 0), list(loop((9, 0), (1, 1, 7), (0, 50), (-1, 1, 9), (-30, -1), (1, -40, 50))))
 
     def test_about_a_spot_elsewhere_and_at_broken_places(self):
-        self.assert_round(spot(5, 7, 2), list(loop((7, 7, 2), (4, 4), (5, 9, 2), (1, 8), (1, 7, 2), (2, 3), (5, -1, 2), (4, 3))))
+        self.assert_round(spot(5, 7, 2), list(loop(
+            (7, 7, 2), (4, 4), (5, 9, 2), (1, 8), (1, 7, 2), (2, 3), (5, -1, 2), (4, 3),
+        )))
 
     def test_none_straight_right(self):
         self.assert_round(spot(1, 1), list(loop((0, 2), (0, 1), (2, 0))))

@@ -49,7 +49,9 @@ class SpotIn(unittest.TestCase):
         self.assert_within(loop((0, 0), (6, 0), (6, 6), (5, 1), (4, 6), (3, 1), (2, 6), (1, 1), (0, 6)))
 
     def test_round_a_corner_and_back(self):
-        self.assert_within(loop((0, 0), (9, 0), (9, 9), (2, 9), (2, 3), (6, 3), (6, 6), (5, 6), (5, 4), (3, 4), (3, 8), (8, 8), (8, 1), (0, 1)))
+        self.assert_within(loop(
+            (0, 0), (9, 0), (9, 9), (2, 9), (2, 3), (6, 3), (6, 6), (5, 6), (5, 4), (3, 4), (3, 8), (8, 8), (8, 1), (0, 1),
+        ))
 
     def test_spots_in_one_row(self):
         self.assert_within(loop((0, 0), (1, 0), (2, 0), (3, 0), (3, 1), (3, 2), (2, 2), (1, 2), (0, 2), (0, 1)))
