@@ -3,6 +3,7 @@
 from sheetlay.errors import NoPile
 from sheetlay.loops import sides_of, where
 from sheetlay.pieces import cut
+from sheetlay.sheets import copied
 from sheetlay.spots import ahead
 from sheetlay.webs import loops_of
 
@@ -48,20 +49,24 @@ def loops_beside(loop, at_left, words):
     return [at_left[(b, a)] for a, b in sides_of(loop) if (a, b) not in words]
 
 
-def words_of_loops(loops, at_left, words):
-    # A loop that goes along a side of the sheet lies in the face at the left
-    # of it; so do those beside it, as no side of the sheet lies between.
-    found = {}
-    for going in words:
-        found[at_left[going]] = words[going]
+def handed_on(told, beside):
+    # What is told of some numbers, told of all beside them too, and so on.
+    found = dict(told)
     waiting = list(found)
     while waiting:
         n = waiting.pop()
-        for beside in loops_beside(loops[n], at_left, words):
-            if beside not in found:
-                found[beside] = found[n]
-                waiting.append(beside)
+        for other in beside(n):
+            if other not in found:
+                found[other] = found[n]
+                waiting.append(other)
     return found
+
+
+def words_of_loops(loops, at_left, words):
+    # A loop that goes along a side of the sheet lies in the face at the left
+    # of it; so do those beside it, as no side of the sheet lies between.
+    told = dict([(at_left[going], words[going]) for going in words])
+    return handed_on(told, lambda n: loops_beside(loops[n], at_left, words))
 
 
 def rows_of(loops, at_left, words):
@@ -71,7 +76,7 @@ def rows_of(loops, at_left, words):
 
 class Lay:
     def __init__(self, sheets):
-        self.sheets = list(sheets)
+        self.sheets = [copied(sheet) for sheet in sheets]
         refuse_no_pile(self.sheets)
         told = goings_with_words(self.sheets)
         web = cut([going for going, k, word in told])

@@ -80,3 +80,8 @@ class Sheet:
 
     def faces_at(self, p):
         return [face for face, mark, loop in self.faces if where(loop, p) >= 0]
+
+
+def copied(sheet):
+    # What keeps a sheet keeps one of its own, which nobody else can change.
+    return Sheet(sheet.name, sheet.faces)

@@ -109,13 +109,12 @@ def direction(b, p):
     return 1 - share if v >= y else 3 + share
 
 
-def loops_by_directions(sides):
+def loops_of_goings(goings):
     # Behind the going from a to b comes the one to the spot that needs the
     # least turn to the right, a whole turn for a itself.
-    goings = set(sides) | {(b, a) for a, b in sides}
-    near = {}
+    behind = {}
     for a, b in goings:
-        near.setdefault(b, []).append(a)
+        behind.setdefault(a, []).append(b)
     left = set(goings)
     loops = []
     while left:
@@ -125,9 +124,22 @@ def loops_by_directions(sides):
             left.remove(going)
             loop.append(going[0])
             a, b = going
-            going = (b, min(near[b], key=lambda c: (direction(b, a) - direction(b, c)) % 4 or 4))
+            going = (b, min(behind[b], key=lambda c: (direction(b, a) - direction(b, c)) % 4 or 4))
         loops.append(first_rotation(tuple(loop)))
     return sorted(loops, key=places)
+
+
+def loops_by_directions(sides):
+    return loops_of_goings(list(sides) + [(b, a) for a, b in sides])
+
+
+def square_by_shares(p, side):
+    # By the nearest spot of the side, found by its share of it.
+    a, b, c = place(side[0]), place(side[1]), place(p)
+    way = (b[0] - a[0], b[1] - a[1])
+    share = ((c[0] - a[0]) * way[0] + (c[1] - a[1]) * way[1]) / (way[0] ** 2 + way[1] ** 2)
+    share = min(max(share, 0), 1)
+    return (a[0] + share * way[0] - c[0]) ** 2 + (a[1] + share * way[1] - c[1]) ** 2
 
 
 def corners_by_shares(sides):

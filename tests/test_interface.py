@@ -54,6 +54,25 @@ FUNCTIONS = {
         "summed": "(lay, names)",
         "sheet_summed": "(sheet)",
     },
+    "rules": {
+        "read_book": "(text)",
+        "holds": "(condition, marks)",
+    },
+    "books": {
+        "worth": "(book, marks)",
+        "land_worth": "(lay, book)",
+        "counting": "(book, kinds)",
+        "leaner": "(book, kinds)",
+        "parted": "(one, other, kinds)",
+    },
+    "melting": {
+        "patches": "(lay, keys)",
+        "melt_paper": "(lay, keys)",
+        "keys_by": "(lay, names)",
+    },
+    "distance": {
+        "square": "(p, side)",
+    },
 }
 
 CLASSES = {

@@ -152,11 +152,16 @@ def taken_names(tree):
     return set(drawn) | {node.name for node in tree.body if isinstance(node, ast.ClassDef)}
 
 
+def methods_of(tree):
+    return [part for node in tree.body if isinstance(node, ast.ClassDef) for part in node.body]
+
+
 def local_faults(tree):
     taken = taken_names(tree)
+    methods = methods_of(tree)
     for node in ast.walk(tree):
         for name in names_bound(node):
-            if name in taken and not isinstance(node, (ast.ClassDef, ast.Attribute)):
+            if name in taken and node not in methods and not isinstance(node, (ast.ClassDef, ast.Attribute)):
                 yield (getattr(node, "lineno", 0), "L15: " + name)
 
 
@@ -229,6 +234,7 @@ class Language(unittest.TestCase):
             "def f():\n" + "    pass\n" * 40, "x = 1\n" * 401, "def _f():\n    pass\n",
             "from sheetlay.spots import turn\n\n\ndef f(turn):\n    pass\n",
             "from sheetlay.spots import turn\n\n\ndef f():\n    for turn in ():\n        pass\n",
+            "from sheetlay.spots import turn\n\n\ndef f():\n    def turn():\n        pass\n",
         ):
             with self.subTest(text[:40]):
                 self.assertNotEqual(faults(text), [])

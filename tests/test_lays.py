@@ -13,6 +13,7 @@ from sheetlay.lays import Lay
 from sheetlay.pieces import pieces
 from sheetlay.sheets import Sheet
 from sheetlay.spots import spot
+from sheetlay.sums import marks_of, summed
 from sheetlay.within import spot_in
 
 GREAT = 10 ** 30
@@ -277,6 +278,18 @@ class HandedIn(unittest.TestCase):
         self.assertEqual([sheet.name for sheet in lay.sheets], ["soil", "use"])
         lay.sheets.clear()
         self.assertEqual(len(sheets), 3)
+
+    def test_the_sheets_are_its_own(self):
+        sheets = [named("soil", UPRIGHT), named("use", LEVEL)]
+        lay = Lay(sheets)
+        before = (list(lay.faces), lay.paper(), [marks_of(lay, n) for n in range(4)], summed(lay, ["use"]))
+        sheets[0].faces.clear()
+        sheets[1].faces[0] = ("north", "moor", box(0, 2, 4, 4))
+        after = (list(lay.faces), lay.paper(), [marks_of(lay, n) for n in range(4)], summed(lay, ["use"]))
+        self.assertEqual(after, before)
+        self.assertEqual([sheet.faces for sheet in lay.sheets], [UPRIGHT.faces, LEVEL.faces])
+        lay.sheets[1].faces.clear()
+        self.assertEqual(len(sheets[1].faces), 2)
 
     def test_the_sheets_stay(self):
         before = [list(sheet.faces) for sheet in (UPRIGHT, LEVEL, SLANTED)]
