@@ -19,15 +19,24 @@ def corners_on(sides):
     return found
 
 
+def numbers_by_side(sides):
+    # Sides that are alike, or the one the other turned about, are cut once.
+    found = {}
+    for k in range(len(sides)):
+        found.setdefault(forward(sides[k]), []).append(k)
+    return found
+
+
 def cut(sides):
     # From each piece, in order, to the numbers of the sides it lies on.
     lying = {}
-    found = corners_on(sides)
-    for k in range(len(sides)):
-        spots = along(forward(sides[k]), found[k])
+    numbers = numbers_by_side(sides)
+    found = corners_on(list(numbers))
+    for side, corners in zip(numbers, found):
+        spots = along(side, corners)
         for piece in zip(spots, spots[1:]):
-            lying.setdefault(piece, []).append(k)
-    return dict([(piece, lying[piece]) for piece in in_order(list(lying), loop_ahead)])
+            lying.setdefault(piece, []).extend(numbers[side])
+    return dict([(piece, sorted(lying[piece])) for piece in in_order(list(lying), loop_ahead)])
 
 
 def pieces(sides):

@@ -82,7 +82,8 @@ def read_condition(words):
 
 def read_rule(row):
     words = words_of(row)
-    if words.count(":") != 1 or words.index(":") != len(words) - 2:
+    # Another colon is neither a word of the condition nor a number.
+    if len(words) < 2 or words[-2] != ":":
         return None
     condition = read_condition(words[:-2])
     amount = read_number(words[-1])

@@ -168,3 +168,9 @@ def face_around(faces, p):
     if len(found) != 1:
         raise ValueError((faces, p, found))
     return found[0]
+
+
+def neighbours(sheet):
+    # Which face of a sheet lies by which, None being the land's end.
+    left = {going: word for word, mark, loop in sheet.faces for going in goings_of(loop)}
+    return {(word, left.get(going[::-1])) for going, word in left.items()}

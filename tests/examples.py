@@ -118,6 +118,15 @@ def chance_bends(chance, some):
     ]
 
 
+def chance_path(chance, some):
+    # Often from spot to spot of the loop, now and then from amid a side.
+    ends = [chance.choice(some) for end in (0, 1)]
+    if chance.random() < 0.1:
+        side = chance.choice(goings_of(some))
+        ends[chance.randint(0, 1)] = amid(side[0], side[1], Fraction(chance.randint(1, 3), 4))
+    return tuple(ends[:1] + chance_bends(chance, some) + ends[1:])
+
+
 def chance_loops(chance, loops, count):
     # Split by paths, again and again.
     for k in range(20 * count):

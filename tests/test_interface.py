@@ -73,6 +73,15 @@ FUNCTIONS = {
     "distance": {
         "square": "(p, side)",
     },
+    "plainer": {
+        "can_go": "(sheet, p, far)",
+        "plainer": "(sheet, far)",
+    },
+    "changes": {
+        "marked": "(sheet, face, mark)",
+        "split": "(sheet, face, path, word, mark)",
+        "joined": "(sheet, one, other)",
+    },
 }
 
 CLASSES = {
@@ -87,6 +96,19 @@ CLASSES = {
         "Lay": "(sheets)",
         "Lay.paper": "(self)",
         "Lay.face_at": "(self, p)",
+    },
+    "kept": {
+        "Kept": "(sheets)",
+        "Kept.pile": "(self)",
+        "Kept.lay": "(self)",
+        "Kept.numbered": "(self)",
+        "Kept.mark": "(self, name, face, mark)",
+        "Kept.split": "(self, name, face, path, word, mark)",
+        "Kept.join": "(self, name, one, other)",
+    },
+    "desk": {
+        "Desk": "()",
+        "Desk.say": "(self, row)",
     },
 }
 

@@ -127,9 +127,10 @@ class Books(unittest.TestCase):
 
 WRONG = {
     "no condition": [": 1", "  : 1", ":1", "() : 1", "not : 1", "(not) : 1"],
-    "no colon": ["any 1", "any", "soil wood", "1", "any\t1", "any;1"],
+    "no colon": ["any 1", "any", "soil wood", "1", "any\t1", "any;1", "any ; 1", "any any 1", "any wood 1", "any - 1", "(any) ) 1"],
     "a second colon": ["any : : 1", "any :: 1", "any : 1 :", ": any : 1", "any : 1 : 2", ":"],
-    "a missing bracket": ["(any : 1", "((any) : 1", "not (any : 1", "(any and soil wood : 1", "( : 1", "((((any))) : 1"],
+    "a missing bracket": ["(any : 1", "((any) : 1", "not (any : 1", "(any and soil wood : 1", "( : 1", "((((any))) : 1",
+                          "any ( : 1", "any (any : 1", "soil wood (( : 1", "any and any ( soil wood : 1"],
     "a loose bracket": ["any) : 1", "(any)) : 1", ")any( : 1", ") : 1", "any () : 1", "any)( : 1", "(any : 1)", "any : (1)"],
     "a name without a mark": ["soil : 1", "soil and any : 1", "any or soil : 1", "(soil) : 1", "not soil : 1", "(soil) wood : 1"],
     "too many words": ["soil wood any : 1", "soil wood lake : 1", "any any : 1", "any soil wood : 1", "soil wood use farm : 1"],
